@@ -1,0 +1,1 @@
+"""Aliasfold: a small language with hygienic macros and modules."""
