@@ -55,10 +55,10 @@ def remark_end(text, at):
     return len(text) if end == -1 else end
 
 
-def begin_list(rows):
+def begin_list(rows, deepest):
     """Begin a list within the innermost of the lists that have no end yet."""
-    if len(rows) > DEEPEST_LIST:
-        raise TooDeep(f"a list within {DEEPEST_LIST} lists")
+    if len(rows) > deepest:
+        raise TooDeep(f"a list within {deepest} lists")
     inner = []
     rows[-1].append(inner)
     rows.append(inner)
@@ -71,8 +71,8 @@ def end_list(rows, at):
     rows.pop()
 
 
-def parse_all(text):
-    """Return the list of the data of a text."""
+def read_data(text, deepest):
+    """Return the list of the data of a text whose lists may be nested so deep."""
     data = []
     # The lists that have no end yet, the innermost last; the data of the text are the first.
     rows = [data]
@@ -83,7 +83,7 @@ def parse_all(text):
         if sign == ";":
             end = remark_end(text, at)
         elif sign == "(":
-            begin_list(rows)
+            begin_list(rows, deepest)
         elif sign == ")":
             end_list(rows, at)
         elif sign not in " \n":
@@ -93,6 +93,11 @@ def parse_all(text):
     if len(rows) > 1:
         raise UnexpectedEnd(len(text))
     return data
+
+
+def parse_all(text):
+    """Return the list of the data of a text."""
+    return read_data(text, DEEPEST_LIST)
 
 
 def format_datum(datum):
