@@ -2,7 +2,7 @@
 
 from aliasfold.errors import NoMatchingRule
 from aliasfold.names import NewName, is_word, meaning_of, written
-from aliasfold.rules import check_template, ends_with_dots, pattern_variables, template_parts, words_of
+from aliasfold.rules import check_template, ends_with_dots, is_variable, pattern_variables, template_parts, words_of
 
 
 class Macro:
@@ -21,6 +21,13 @@ class Match:
         self.single = {}
         self.repeated = {}
 
+    def keep(self, name, datum, repeated):
+        """Keep a datum for which a variable stands, or one of the data if it is repeated."""
+        if repeated:
+            self.repeated.setdefault(name, []).append(datum)
+        else:
+            self.single[name] = datum
+
 
 def means_literal(macro, literal, datum, scope):
     """Tell whether a datum of a scope is a symbol that a literal of a macro matches."""
@@ -33,11 +40,11 @@ def means_literal(macro, literal, datum, scope):
     return given == wanted
 
 
-def matches_leaf(macro, part, datum, scope):
-    """Tell whether a datum of a scope matches an integer or a symbol of a pattern."""
+def matches_constant(macro, part, datum, scope):
+    """Tell whether a datum of a scope matches an integer or a literal of a pattern."""
     if isinstance(part, int):
         return datum == part
-    return part not in macro.literals or means_literal(macro, part, datum, scope)
+    return means_literal(macro, part, datum, scope)
 
 
 def held_parts(pattern, datum, repeated):
@@ -68,12 +75,10 @@ def match_pattern(counts, macro, pattern, datum, scope):
             if parts is None:
                 return None
             rest.extend(parts[::-1])
-        elif not matches_leaf(macro, part, inner, scope):
+        elif is_variable(part, macro.literals):
+            found.keep(part, inner, repeated)
+        elif not matches_constant(macro, part, inner, scope):
             return None
-        elif repeated:
-            found.repeated.setdefault(part, []).append(inner)
-        else:
-            found.single[part] = inner
     return found
 
 

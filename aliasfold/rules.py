@@ -36,6 +36,11 @@ def words_of(datum):
     return found
 
 
+def is_variable(part, literals):
+    """Tell whether an element of a pattern is a variable; a dict has the literals."""
+    return is_word(part) and part not in literals
+
+
 def ends_with_dots(pattern):
     """Tell whether a list of a pattern has an element that is repeated."""
     return len(pattern) > 1 and pattern[-1] == DOTS
@@ -61,7 +66,7 @@ def pattern_variables(pattern, literals):
         part, repeated = rest.pop()
         if isinstance(part, list):
             rest.extend(pattern_parts(part, repeated)[::-1])
-        elif is_word(part) and part not in literals:
+        elif is_variable(part, literals):
             if part in variables:
                 raise DuplicateName(written(part))
             variables[part] = repeated

@@ -9,10 +9,9 @@ from tests.support import FoldCase, core_of, unit_of
 
 # Forms that are malformed, whatever their parts are.
 MALFORMED = [
-    "(fn)", "(fn (x))", "(fn x)", "(fn (x) x x)", "(fn x x)", "(fn 5 x)", "(fn ... x)", "(fn () )",
-    "(let)", "(let ((x 1)))", "(let ((x 1)) x x)", "(let x x)", "(let 5 x)", "(let (x) x)", "(let (5) x)", "(let ((x)) x)",
-    "(let (()) x)", "(let ((x 1 2)) x)", "(let ((x 1) y) x)", "(let ())",
-    "(if)", "(if 1)", "(if 1 2)", "(if 1 2 3 4)",
+    "(fn)", "(fn (x))", "(fn x)", "(fn (x) x x)", "(fn x x)", "(fn 5 x)", "(fn ... x)", "(fn () )", "(let)",
+    "(let ((x 1)))", "(let ((x 1)) x x)", "(let x x)", "(let 5 x)", "(let (x) x)", "(let (5) x)", "(let ((x)) x)",
+    "(let (()) x)", "(let ((x 1 2)) x)", "(let ((x 1) y) x)", "(let ())", "(if)", "(if 1)", "(if 1 2)", "(if 1 2 3 4)",
     "(let-macro)", "(let-macro ())", "(let-macro () 1 2)", "(let-macro k 1)", "(let-macro 5 1)", "(let-macro ... 1)",
 ]
 
@@ -83,7 +82,8 @@ class NumberTest(FoldCase):
                          "(let ((a (let ((b 1)) b))) (let ((c a)) c))")
 
     def test_parts_of_a_choice(self):
-        self.assert_core(choose(fn([0], loc(0)), fn([1], loc(1)), fn([2], loc(2))), "(if (fn (a) a) (fn (a) a) (fn (a) a))")
+        self.assert_core(choose(fn([0], loc(0)), fn([1], loc(1)), fn([2], loc(2))),
+                         "(if (fn (a) a) (fn (a) a) (fn (a) a))")
 
     def test_each_definition_begins_with_0(self):
         unit = unit_of("(module m) (define f (fn (a b) b)) (define g (fn (a) (let ((b a)) b)))")
@@ -109,7 +109,8 @@ class NumberTest(FoldCase):
                          "(fn (a) (let-macro ((k () ((x y) (x y))) (j () (() 1))) (fn (b) (k a b))))")
 
     def test_the_example_of_the_interface(self):
-        self.assert_core(fn([0], let([(1, op("*", loc(0), THREE))], op("+", loc(1), loc(1)))), "(fn (t) (twice (* t 3)))",
+        self.assert_core(fn([0], let([(1, op("*", loc(0), THREE))], op("+", loc(1), loc(1)))),
+                         "(fn (t) (twice (* t 3)))",
                          "(macro twice () ((x) (let ((t x)) (+ t t))))")
 
 
@@ -119,7 +120,8 @@ class LocalMacroTest(FoldCase):
         self.assert_core(ONE, "(let-macro ((j () (() 1)) (k () (() (j)))) (k))")
         self.assert_core(THREE, "(let-macro ((even () (() 2) ((a b ...) (odd b ...))) "
                          "(odd () (() 3) ((a b ...) (even b ...)))) (even 1 1 1))")
-        self.assert_core(op("+", ONE, op("+", TWO, num(0))), "(let-macro ((k () (() 0) ((a b ...) (+ a (k b ...))))) (k 1 2))")
+        self.assert_core(op("+", ONE, op("+", TWO, num(0))),
+                         "(let-macro ((k () (() 0) ((a b ...) (+ a (k b ...))))) (k 1 2))")
 
     def test_an_inner_one_hides_an_outer_one(self):
         self.assert_core(TWO, "(let-macro ((k () (() 1))) (let-macro ((k () (() 2))) (k)))")
@@ -135,7 +137,8 @@ class LocalMacroTest(FoldCase):
                          "(fn (x) (let-macro ((k () ((y) (+ x y)))) (fn (x) (k x))))")
 
     def test_one_of_another_definition(self):
-        self.assert_error(UnknownName, unit_of, "(module m) (define a (let-macro ((k () (() 1))) (k))) (define b (k))", name="k")
+        self.assert_error(UnknownName, unit_of, "(module m) (define a (let-macro ((k () (() 1))) (k))) (define b (k))",
+                          name="k")
 
 
 class ErrorTest(FoldCase):
@@ -145,7 +148,8 @@ class ErrorTest(FoldCase):
             self.assert_core_error(InvalidForm, f"(+ 1 {expression})")
 
     def test_the_empty_list(self):
-        for expression in ["()", "(+ ())", "(())", "(fn (x) ())", "(let ((x ())) 1)", "(if 1 2 ())", "(let-macro () ())"]:
+        for expression in ["()", "(+ ())", "(())", "(fn (x) ())", "(let ((x ())) 1)", "(if 1 2 ())",
+                           "(let-macro () ())"]:
             self.assert_core_error(InvalidForm, expression)
         self.assert_core_error(InvalidForm, "(k)", "(macro k () (() ()))")
 
@@ -168,17 +172,20 @@ class ErrorTest(FoldCase):
     def test_a_name_twice(self):
         for expression in ["(fn (x x) 1)", "(fn (y x z x) 1)", "(let ((x 1) (x 2)) 1)", "(let ((x 1) (y 2) (x 3)) 1)",
                            "(let-macro ((x () (() 1)) (x () (() 1))) 1)", "(fn (x x 5) 1)", "(fn (x x y y) 1)",
-                           "(let ((x 1) (x 2) (... 3)) 1)", "(let-macro ((y () (() 1)) (x () (() 1)) (x () (() 1))) 1)"]:
+                           "(let ((x 1) (x 2) (... 3)) 1)",
+                           "(let-macro ((y () (() 1)) (x () (() 1)) (x () (() 1))) 1)"]:
             self.assert_core_error(DuplicateName, expression, name="x")
 
     def test_an_inserted_name_twice(self):
         self.assert_core_error(DuplicateName, "(k)", "(macro k () (() (fn (t t) 1)))", name="t")
         self.assert_core_error(DuplicateName, "(k u)", "(macro k () ((n) (fn (t n n) 1)))", name="u")
-        self.assert_core_error(DuplicateName, "(k)", "(macro k () (() (let-macro ((t () (() 1)) (t () (() 1))) 1)))", name="t")
+        self.assert_core_error(DuplicateName, "(k)", "(macro k () (() (let-macro ((t () (() 1)) (t () (() 1))) 1)))",
+                               name="t")
         self.assert_core(fn([0, 1], op("-", loc(0), loc(1))), "(k t)", "(macro k () ((n) (fn (t n) (- t n))))")
 
     def test_an_unknown_name(self):
-        for expression in ["x", "(x)", "(x 1)", "(+ 1 x)", "(fn (y) x)", "(let ((y x)) y)", "(if 1 2 x)", "((fn (x) 1) x)"]:
+        for expression in ["x", "(x)", "(x 1)", "(+ 1 x)", "(fn (y) x)", "(let ((y x)) y)", "(if 1 2 x)",
+                           "((fn (x) 1) x)"]:
             self.assert_core_error(UnknownName, expression, name="x")
 
     def test_a_misused_name(self):
@@ -254,8 +261,9 @@ class OrderTest(FoldCase):
         self.assert_core_error(TooLarge, f"(let-macro ((k () (() 1)) (k () (() 1)) (j () {large})) 1)")
 
     def test_the_parts_of_a_form_from_left_to_right(self):
-        for expression in ["(+ u v)", "(u v)", "(if u v w)", "(if 1 u v)", "(let ((x u) (y v)) w)", "(let ((x 1) (y u)) v)",
-                           "(+ (fn (x) u) (fn (y y) 1))", "((fn (x) u) v)", "(u (fn))", "(let ((x (+ u))) (fn))"]:
+        for expression in ["(+ u v)", "(u v)", "(if u v w)", "(if 1 u v)", "(let ((x u) (y v)) w)",
+                           "(let ((x 1) (y u)) v)", "(+ (fn (x) u) (fn (y y) 1))", "((fn (x) u) v)", "(u (fn))",
+                           "(let ((x (+ u))) (fn))"]:
             self.assert_core_error(UnknownName, expression, name="u")
         self.assert_core_error(InvalidForm, "((fn) u)")
         self.assert_core_error(MisusedName, "(+ if u)", name="if")

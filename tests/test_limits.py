@@ -29,7 +29,8 @@ class CallTest(FoldCase):
 
     def test_an_endless_macro(self):
         self.assert_core_error(OutOfFuel, "(loop)", "(macro loop () (() (loop)))", name="loop")
-        self.assert_core_error(OutOfFuel, "(ping)", "(macro ping () (() (pong))) (macro pong () (() (ping)))", name="ping")
+        self.assert_core_error(OutOfFuel, "(ping)", "(macro ping () (() (pong))) (macro pong () (() (ping)))",
+                               name="ping")
         self.assert_core_error(OutOfFuel, "(let-macro ((loop () ((a) (loop (a))))) (loop 1))", name="loop")
 
     def test_the_name_is_that_of_the_next_call(self):
@@ -55,7 +56,8 @@ class CallTest(FoldCase):
     def test_all_definitions_of_a_module_count_together(self):
         half = f"(define a (+ {calls('k', 150)}))"
         self.assertEqual(len(unit_of(f"(module m) {self.FORMS} {half} {half.replace('a', 'b', 1)}").definitions), 2)
-        self.assert_error(OutOfFuel, unit_of, f"(module m) {self.FORMS} {half} (define b (+ {calls('k', 151)}))", name="k")
+        self.assert_error(OutOfFuel, unit_of, f"(module m) {self.FORMS} {half} (define b (+ {calls('k', 151)}))",
+                          name="k")
 
     def test_each_module_counts_by_itself(self):
         other = unit_of(f"(module o) (export k) {self.FORMS} (define a (+ {calls('k', 300)}))")
@@ -191,31 +193,33 @@ class HeldTest(FoldCase):
             self.assert_held(many, f"(k {datum})", f"(macro k (else) ({rule} 1))")
 
     def test_parts_ahead_of_dots(self):
-        for rule, datum, many in [("(a ...)", "", 1), ("(a ...)", "1 2 3", 4), ("(a b ...)", "1", 2), ("(a b ...)", "1 2 3", 4),
-                                  ("((a b) ...)", "(1 2) (3 4)", 7), ("((a ...) b ...)", "(1 2) 3", 5),
-                                  ("(7 ...)", "7 7", 3), ("((a (b c)) ...)", "(1 (2 3)) (4 (5 6))", 11)]:
+        for rule, datum, many in [("(a ...)", "", 1), ("(a ...)", "1 2 3", 4), ("(a b ...)", "1", 2),
+                                  ("(a b ...)", "1 2 3", 4), ("((a b) ...)", "(1 2) (3 4)", 7),
+                                  ("((a ...) b ...)", "(1 2) 3", 5), ("(7 ...)", "7 7", 3),
+                                  ("((a (b c)) ...)", "(1 (2 3)) (4 (5 6))", 11)]:
             self.assert_held(many, f"(k {datum})", f"(macro k () ({rule} 1))")
 
     def test_nothing_is_held_behind_what_does_not_match(self):
         for rule, datum, many in [("(7 a b)", "8 1 2", 2), ("(a 7 b)", "1 8 2", 3), ("((a b c) d)", "(1 2) 3", 2),
                                   ("((a b) d)", "1 3", 2), ("(else a)", "or 1", 2), ("((7 a) b)", "(8 1) 2", 3),
-                                  ("(a)", "1 2", 1), ("(a b)", "1", 1), ("(a b c ...)", "1", 1), ("((a b ...) c)", "() 1", 2),
-                                  ("()", "1", 1)]:
+                                  ("(a)", "1 2", 1), ("(a b)", "1", 1), ("(a b c ...)", "1", 1),
+                                  ("((a b ...) c)", "() 1", 2), ("()", "1", 1)]:
             # The rule that matches holds the call once against its pattern, and each element against its own part.
             more = 1 + len(_data_of(datum))
             self.assert_held(many + more, f"(k {datum})", f"(macro k (else) ({rule} 1) ((a ...) 2))")
 
     def test_further_elements_come_first(self):
         # The first of the further ones that does not match ends the rule, whatever stands ahead of them.
-        for rule, datum, many in [("(a b 7 ...)", "1 2 8", 2), ("(9 b 7 ...)", "1 2 7", 3), ("(9 b 7 ...)", "1 2 8", 2),
-                                  ("(9 b 7 ...)", "1 2 7 7 8 7", 4), ("(9 b 7 ...)", "1 2 7 7 7 7", 6),
-                                  ("((9 b) (c d) ...)", "(1 2) (3 4) (5)", 5), ("((9 b) (c d) ...)", "(1 2) (3 4) (5 6)", 9)]:
+        for rule, datum, many in [("(a b 7 ...)", "1 2 8", 2), ("(9 b 7 ...)", "1 2 7", 3),
+                                  ("(9 b 7 ...)", "1 2 8", 2), ("(9 b 7 ...)", "1 2 7 7 8 7", 4),
+                                  ("(9 b 7 ...)", "1 2 7 7 7 7", 6), ("((9 b) (c d) ...)", "(1 2) (3 4) (5)", 5),
+                                  ("((9 b) (c d) ...)", "(1 2) (3 4) (5 6)", 9)]:
             more = 1 + len(_data_of(datum))
             self.assert_held(many + more, f"(k {datum})", f"(macro k () ({rule} 1) ((a ...) 2))")
 
     def test_a_list_is_held_before_its_elements(self):
-        for rule, datum, many in [("(((a b) c))", "((1) 2)", 3), ("((c (a b)))", "(1 (2))", 4), ("((a b) 7)", "(1) 8", 2),
-                                  ("((a b) 7)", "(1 2) 8", 5)]:
+        for rule, datum, many in [("(((a b) c))", "((1) 2)", 3), ("((c (a b)))", "(1 (2))", 4),
+                                  ("((a b) 7)", "(1) 8", 2), ("((a b) 7)", "(1 2) 8", 5)]:
             more = 1 + len(_data_of(datum))
             self.assert_held(many + more, f"(k {datum})", f"(macro k () ({rule} 1) ((a ...) 2))")
 
@@ -276,11 +280,12 @@ class DepthTest(FoldCase):
         self.assert_core_error(TooDeep, self.nest(50, "1"), self.FORMS)
 
     def test_each_form_is_one_deeper(self):
-        for text, depth in [("1", 1), ("(fn (x) 1)", 2), ("(fn (x) (x))", 3), ("(let ((x 1)) 1)", 2), ("(let ((x (1))) 1)", 3),
-                            ("(if (1) 1 1)", 3), ("(if 1 (1) 1)", 3), ("(if 1 1 (1))", 3), ("(let-macro () 1)", 2),
-                            ("(let-macro () (1))", 3), ("((1))", 3), ("(1 (1))", 3), ("(1 1 (1))", 3), ("(let () (1))", 3),
-                            ("(let-macro ((j () (() (((1)))))) 1)", 2), ("(same 1)", 1), ("(same (1))", 2),
-                            ("(same (same (same 1)))", 1), ("(let-macro ((j () (() (1)))) (j))", 3)]:
+        for text, depth in [("1", 1), ("(fn (x) 1)", 2), ("(fn (x) (x))", 3), ("(let ((x 1)) 1)", 2),
+                            ("(let ((x (1))) 1)", 3), ("(if (1) 1 1)", 3), ("(if 1 (1) 1)", 3), ("(if 1 1 (1))", 3),
+                            ("(let-macro () 1)", 2), ("(let-macro () (1))", 3), ("((1))", 3), ("(1 (1))", 3),
+                            ("(1 1 (1))", 3), ("(let () (1))", 3), ("(let-macro ((j () (() (((1)))))) 1)", 2),
+                            ("(same 1)", 1), ("(same (1))", 2), ("(same (same (same 1)))", 1),
+                            ("(let-macro ((j () (() (1)))) (j))", 3)]:
             # The whole expression is one deep, and each `k` makes what is in it two deeper.
             even = (60 - depth) // 2
             rest = (60 - depth) % 2
@@ -292,7 +297,8 @@ class DepthTest(FoldCase):
         tree = core_of(self.nest(29, "(- 1)"), self.FORMS)
         self.assertTrue(well_formed(tree, []))
         forms = "(macro deep () ((a) (let ((x (fn (y) a))) x)))"
-        for wrap in ["(let ((x 1)) {})", "(let ((x {})) x)", "(fn (x) {})", "(if 1 {} 1)", "(if {} 1 1)", "({})", "(1 {})"]:
+        for wrap in ["(let ((x 1)) {})", "(let ((x {})) x)", "(fn (x) {})", "(if 1 {} 1)", "(if {} 1 1)", "({})",
+                     "(1 {})"]:
             text = "1"
             for _ in range(13):
                 text = f"(deep {text})"
@@ -314,7 +320,8 @@ class DepthTest(FoldCase):
 
     def test_a_macro_that_deepens_without_end(self):
         self.assert_core_error(TooDeep, "(deep 1)", "(macro deep () ((a) (fn (x) (deep a))))")
-        self.assert_core_error(TooDeep, "(deep 1)", "(macro deep () ((a) (deep (deep (deep a) 1) 2)) ((a b) (- (deep a))))")
+        self.assert_core_error(TooDeep, "(deep 1)",
+                               "(macro deep () ((a) (deep (deep (deep a) 1) 2)) ((a b) (- (deep a))))")
 
     def test_deep_data_that_stand_nowhere(self):
         forms = "(macro wrap () ((a) 1) ((a b c ...) (wrap ((((((((((a)))))))))) c ...)))"

@@ -129,8 +129,8 @@ class OrderTest(FoldCase):
     def test_definitions_keep_their_order(self):
         first = Unit("b", [], {}, {}, [("z", ONE), ("a", TWO)])
         second = Unit("a", ["b"], {}, {}, [("z", num(3)), ("a", num(4)), ("m", num(5))])
-        self.assertEqual(link([second, first]), [("b", "z", ONE), ("b", "a", TWO), ("a", "z", num(3)), ("a", "a", num(4)),
-                                                 ("a", "m", num(5))])
+        expected = [("b", "z", ONE), ("b", "a", TWO), ("a", "z", num(3)), ("a", "a", num(4)), ("a", "m", num(5))]
+        self.assertEqual(link([second, first]), expected)
 
     def test_a_module_without_definitions(self):
         self.assertEqual(link([Unit("a", [], {}, {}, []), bare("b", "a")]), [("b", "in-b", ONE)])
@@ -205,11 +205,14 @@ class WholeOrderTest(FoldCase):
         self.assert_first(ModuleRing, ["(module a) (define x 1) (define x 1)", "(module b) (import b)"])
 
     def test_then_each_module_in_the_order_of_linking(self):
-        self.assert_first(InvalidForm, ["(module c) (define x u)", "(module a) (import b)", "(module b) (define x (fn))"])
+        self.assert_first(InvalidForm,
+                          ["(module c) (define x u)", "(module a) (import b)", "(module b) (define x (fn))"])
         self.assert_first(UnknownName, ["(module b) (define x (fn))", "(module a) (define x u)"], name="u")
         self.assert_first(UnknownName, ["(module a) (import b x) (define y (fn))", "(module b)"], name="x")
-        self.assert_first(DuplicateName, ["(module b) (define x (fn))", "(module a) (define x 1) (export x x)"], name="x")
-        self.assert_first(OutOfFuel, ["(module b) (define x u)", "(module a) (macro k () (() (k))) (define x (k))"], name="k")
+        self.assert_first(DuplicateName, ["(module b) (define x (fn))", "(module a) (define x 1) (export x x)"],
+                          name="x")
+        self.assert_first(OutOfFuel, ["(module b) (define x u)", "(module a) (macro k () (() (k))) (define x (k))"],
+                          name="k")
 
 
 # Programs of several modules, with the module and the name of their last definition, and its outcome.
@@ -266,17 +269,19 @@ def programs():
     return [
         ([LISTS, LOGIC, MAIN], ("main", "it"),
          ("value", ("pair", 88, ("pair", 1, ("pair", 77, ("pair", 78, ("pair", 1, ("pair", 9, ("pair", 8, 0)))))))),),
-        ([COUNTER, "(module m) (import counter count even) (define down 7) (define it (pair (count 20000) (pair down (even down))))"],
+        ([COUNTER, "(module m) (import counter count even) (define down 7)"
+          " (define it (pair (count 20000) (pair down (even down))))"],
          ("m", "it"), ("value", ("pair", 0, ("pair", 7, 1)))),
         ([SWAP, "(module m) (import swap (swap t)) (define f (fn (a b) (t a b (pair a b)))) (define it (f 1 2))"],
          ("m", "it"), ("value", ("pair", 2, 1))),
         ([SWAP, "(module m) (import swap swap) (define f (fn (t u) (swap t u (- t u)))) (define it (f 10 3))"],
          ("m", "it"), ("value", -7)),
-        (["(module b) (import a x) (define y x)", "(module a) (export x) (define x (first 5))"], ("b", "y"), ("error", "kind")),
+        (["(module b) (import a x) (define y x)", "(module a) (export x) (define x (first 5))"], ("b", "y"),
+         ("error", "kind")),
         (["(module a) (define x y) (define y 1)"], ("a", "x"), ("error", "early")),
         (["(module a) (define x (fn () y)) (define y 1) (define it (x))"], ("a", "it"), ("value", 1)),
-        (["(module a) (export k) (macro k () ((a) (a)))", "(module b) (import a k) (define it (k (fn (x) x)))"], ("b", "it"),
-         ("error", "count")),
+        (["(module a) (export k) (macro k () ((a) (a)))", "(module b) (import a k) (define it (k (fn (x) x)))"],
+         ("b", "it"), ("error", "count")),
     ]
 
 

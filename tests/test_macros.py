@@ -171,7 +171,8 @@ class LiteralTest(FoldCase):
         rules = "((x) 1) ((other) 2)"
         self.assert_core(fn([0], ONE), f"(fn (x) (let-macro ((k (x) {rules})) (k x)))")
         self.assert_core(fn([0], fn([1], TWO)), f"(fn (x) (let-macro ((k (x) {rules})) (fn (x) (k x))))")
-        self.assert_core(fn([0], let([(1, loc(0))], TWO)), f"(fn (x) (let-macro ((k (x) {rules})) (let ((x x)) (k x))))")
+        self.assert_core(fn([0], let([(1, loc(0))], TWO)),
+                         f"(fn (x) (let-macro ((k (x) {rules})) (let ((x x)) (k x))))")
         self.assert_core(fn([0, 1], TWO), f"(fn (x y) (let-macro ((k (x) {rules})) (k y)))")
 
     def test_a_local_macro(self):
@@ -212,6 +213,21 @@ class LiteralTest(FoldCase):
         self.assert_core(op("+", ONE, TWO), "(k + 1 2)", macro("((+ a b) (+ a b))", "+"))
         self.assert_core_error(UnknownName, "(k else)", macro("((else) else)", "else"), name="else")
 
+    def test_a_literal_that_is_inserted_is_a_new_name(self):
+        forms = macro("((x a) (fn (x) a)) ((a b) (fn (a) b))", "x")
+        self.assert_core_error(UnknownName, "(k x x)", forms, name="x")
+        self.assert_core(fn([0], glo("x")), "(k x x)", forms + "(define x 1)")
+        self.assert_core(fn([0], fn([1], loc(0))), "(fn (x) (let-macro ((j (x) ((x a) (fn (x) a)))) (j x x)))")
+        other = unit_of("(module o) (export k x) (macro x () (() 1)) (macro k (x) ((x) (+ x)))")
+        self.assert_core_error(MisusedName, "(k y)", "(import o k (x y))", other, name="x")
+
+    def test_a_literal_is_no_repeated_variable(self):
+        self.assert_core(op("+", ONE, TWO), "(k + + +)", macro("((+ ...) (+ 1 2))", "+"))
+        self.assert_core(op("+", ONE, TWO), "(k)", macro("((+ ...) (+ 1 2))", "+"))
+        forms = macro("(((a ...) (+ ...)) (- (+ a) ... +))", "+")
+        for second in ["()", "(+)", "(+ + + +)"]:
+            self.assert_core(op("-", op("+", ONE), op("+", TWO), prim("+")), f"(k (1 2) {second})", forms)
+
     def test_a_literal_twice(self):
         self.assert_core(ONE, "(k else else)", macro("((else else) 1)", "else else"))
 
@@ -241,7 +257,8 @@ class TemplateTest(FoldCase):
 
     def test_three_lists(self):
         forms = macro("(((a ...) (b ...) (c ...)) (+ (* a (- b c)) ... a ... c ...))")
-        self.assert_core(op("+", op("*", ONE, op("-", THREE, FOUR)), ONE, TWO, FOUR, FIVE), "(k (1 2) (3) (4 5))", forms)
+        self.assert_core(op("+", op("*", ONE, op("-", THREE, FOUR)), ONE, TWO, FOUR, FIVE), "(k (1 2) (3) (4 5))",
+                         forms)
 
     def test_a_lone_variable_in_a_repeated_element(self):
         forms = macro("((a b ...) (+ (* a b a) ...))")

@@ -27,13 +27,15 @@ FAULTS = {
                            "k () ((a ...) (... a ...))", "k () ((a ...) (... ...))"],
     "a repeated element in another one of a pattern": ["k () (((a ...) ...) 1)", "k () ((((a b ...)) ...) 1)",
                                                        "k () (((1 ...) ...) 1)"],
-    "a repeated element in another one of a template": ["k () ((a ...) ((a ...) ...))", "k () ((a ...) ((+ (a ...)) ...))",
+    "a repeated element in another one of a template": ["k () ((a ...) ((a ...) ...))",
+                                                        "k () ((a ...) ((+ (a ...)) ...))",
                                                         "k () ((a ... ) ((+ (a ...) a) ...))"],
     "a repeated element without a repeated variable": ["k () (() (1 ...))", "k () ((a) (a ...))", "k () ((a) (b ...))",
                                                        "k () ((a ...) (() ...))", "k () ((a ...) (+ a ... 1 ...))",
                                                        "k (a) ((a ...) (a ...))", "k () ((a b ...) ((a) ... b ...))"],
     "a repeated variable outside of a repeated element": ["k () ((a ...) a)", "k () ((a ...) (+ a))",
-                                                          "k () ((a ...) (+ a ... a))", "k () (((a b) ...) (+ a ... b))",
+                                                          "k () ((a ...) (+ a ... a))",
+                                                          "k () (((a b) ...) (+ a ... b))",
                                                           "k () ((a ...) (+ (- a) a ...))"],
 }
 

@@ -34,7 +34,8 @@ UNITS = [
     (Unit("...", ["..."], {}, {}, []), "(unit ... (...) () () ())\n"),
     (Unit("m", ["b", "a"], {}, {}, []), "(unit m (b a) () () ())\n"),
     (Unit("m", [], {"x": ("prim", "first")}, {}, []), "(unit m () ((x prim first)) () ())\n"),
-    (Unit("m", [], {"b": ("prim", "x"), "a": ("special", "y"), "B": ("macro", "u", "v"), "1+": ("global", "w", "z")}, {}, []),
+    (Unit("m", [], {"b": ("prim", "x"), "a": ("special", "y"), "B": ("macro", "u", "v"), "1+": ("global", "w", "z")},
+          {}, []),
      "(unit m () ((1+ global w z) (B macro u v) (a special y) (b prim x)) () ())\n"),
     (Unit("m", [], {"...": ("special", "...")}, {"...": (["..."], [("...", "...")], {})}, [("...", ONE)]),
      "(unit m () ((... special ...)) ((... (...) ((... ...)) ())) ((... 1)))\n"),
@@ -43,7 +44,8 @@ UNITS = [
      "(unit m () () ((a () () ((x prim +))) (k (b a b) ((5 ()) (((x)) -3)) ())) ())\n"),
     (Unit("m", [], {}, {}, [("b", ONE), ("a", let([(3, ONE)], call(loc(3), glo("b"))))]),
      "(unit m () () () ((b 1) (a (let ((3 1)) (call (local 3) (global m b))))))\n"),
-    (Unit("unit", ["macro"], {}, {}, [("unit", ("if", ONE, ONE, ONE))]), "(unit unit (macro) () () ((unit (if 1 1 1))))\n"),
+    (Unit("unit", ["macro"], {}, {}, [("unit", ("if", ONE, ONE, ONE))]),
+     "(unit unit (macro) () () ((unit (if 1 1 1))))\n"),
     (small_unit(), SMALL),
 ]
 
@@ -63,9 +65,10 @@ class InterfaceTest(unittest.TestCase):
     def test_the_fields_have_the_kinds_of_the_interface(self):
         unit = read_unit(SMALL)
         literals, rules, scope = unit.macros["k"]
-        kinds = [(unit.name, str), (unit.imports, list), (unit.exports, dict), (unit.macros, dict), (unit.definitions, list),
-                 (unit.exports["f"], tuple), (unit.macros["k"], tuple), (literals, list), (rules, list), (rules[0], tuple),
-                 (rules[0][0], list), (scope, dict), (scope["if"], tuple), (unit.definitions[0], tuple)]
+        kinds = [(unit.name, str), (unit.imports, list), (unit.exports, dict), (unit.macros, dict),
+                 (unit.definitions, list), (unit.exports["f"], tuple), (unit.macros["k"], tuple), (literals, list),
+                 (rules, list), (rules[0], tuple), (rules[0][0], list), (scope, dict), (scope["if"], tuple),
+                 (unit.definitions[0], tuple)]
         for part, kind in kinds:
             self.assertIs(type(part), kind)
 
@@ -83,7 +86,9 @@ class WriteTest(FoldCase):
                     names = list(table)
                     chance.shuffle(names)
                     return {name: table[name] for name in names}
-                macros = {name: (literals, rules, mixed(scope)) for name, (literals, rules, scope) in mixed(unit.macros).items()}
+                macros = {}
+                for name, (literals, rules, scope) in mixed(unit.macros).items():
+                    macros[name] = (literals, rules, mixed(scope))
                 other = Unit(unit.name, unit.imports, mixed(unit.exports), macros, unit.definitions)
                 self.assertEqual(write_unit(other), text)
 
@@ -95,7 +100,8 @@ class WriteTest(FoldCase):
         self.assertEqual(written, sorted(names))
 
     def test_the_order_of_imports_literals_rules_and_definitions_stays(self):
-        text = write_unit(Unit("m", ["z", "a"], {}, {"k": (["z", "a"], [(["z"], 2), (["a"], 1)], {})}, [("z", ONE), ("a", ONE)]))
+        text = write_unit(Unit("m", ["z", "a"], {}, {"k": (["z", "a"], [(["z"], 2), (["a"], 1)], {})},
+                               [("z", ONE), ("a", ONE)]))
         self.assertEqual(text, "(unit m (z a) () ((k (z a) (((z) 2) ((a) 1)) ())) ((z 1) (a 1)))\n")
 
     def test_the_unit_stays(self):
@@ -129,7 +135,8 @@ class ReadTest(FoldCase):
     def test_random_definitions(self):
         for seed in range(100):
             definitions, core = random_program(seed)
-            unit = Unit("m", [], {}, {}, [(f"d{at}", core) for at, (_, _, core) in enumerate(definitions)] + [("it", core)])
+            unit = Unit("m", [], {}, {},
+                        [(f"d{at}", core) for at, (_, _, core) in enumerate(definitions)] + [("it", core)])
             self.assert_read(unit, write_unit(unit))
 
     def test_patterns_and_templates_of_any_depth(self):
@@ -161,7 +168,8 @@ class ReadTest(FoldCase):
 
     def test_a_long_text(self):
         unit = Unit("m", [f"i{k}" for k in range(3000)], {f"x{k}": ("prim", "+") for k in range(3000)},
-                    {f"k{k}": ([], [([], k)], {"a": ("prim", "+")}) for k in range(3000)}, [(f"d{k}", num(k)) for k in range(3000)])
+                    {f"k{k}": ([], [([], k)], {"a": ("prim", "+")}) for k in range(3000)},
+                    [(f"d{k}", num(k)) for k in range(3000)])
         self.assert_read(unit, write_unit(unit))
 
 
@@ -170,11 +178,11 @@ class InvalidTest(FoldCase):
         self.assert_error(InvalidUnit, read_unit, text)
 
     def test_other_spaces(self):
-        for text in [" " + SMALL, SMALL + " ", SMALL[:-1], SMALL + "\n", SMALL[:-1] + " \n", "\n" + SMALL, SMALL[:-1] + "\n ",
-                     SMALL.replace("m (o", "m  (o"), SMALL.replace("(o b)", "( o b)"), SMALL.replace("(o b)", "(o b )"),
-                     SMALL.replace("(o b)", "(o\nb)"), SMALL.replace(") (f", ")(f"), SMALL.replace("m (o", "m(o"),
-                     SMALL.replace("()", "( )"), SMALL[:-1] + "\r\n", SMALL.replace("m (o", "m\t(o"), SMALL + "; x\n",
-                     "; x\n" + SMALL, SMALL.replace(" (o", "; x\n (o")]:
+        for text in [" " + SMALL, SMALL + " ", SMALL[:-1], SMALL + "\n", SMALL[:-1] + " \n", "\n" + SMALL,
+                     SMALL[:-1] + "\n ", SMALL.replace("m (o", "m  (o"), SMALL.replace("(o b)", "( o b)"),
+                     SMALL.replace("(o b)", "(o b )"), SMALL.replace("(o b)", "(o\nb)"), SMALL.replace(") (f", ")(f"),
+                     SMALL.replace("m (o", "m(o"), SMALL.replace("()", "( )"), SMALL.replace("m (o", "m\t(o"), SMALL + "; x\n", "; x\n" + SMALL,
+                     SMALL.replace(" (o", "; x\n (o")]:
             self.assertNotEqual(text, SMALL)
             self.assert_invalid(text)
 
@@ -188,18 +196,20 @@ class InvalidTest(FoldCase):
                 self.assert_invalid(SMALL[:at] + " " + SMALL[at:])
 
     def test_texts_that_are_no_data(self):
-        for text in ["", "\n", "(", ")", "(unit m () () () ()\n", "(unit m () () () ()))\n", "%\n", "07\n", "(unit m () () () (%))\n",
-                     "(unit 07 () () () ())\n", "(unit m () () () ((a +1)))\n", "(unit m () () () ((a -0)))\n",
-                     f"(unit m () () ((k () ((() {'1' * 41})) ())) ())\n", "(" * 100000, "(" * 100000 + ")" * 100000 + "\n"]:
+        for text in ["", "\n", "(", ")", "(unit m () () () ()\n", "(unit m () () () ()))\n", "%\n", "07\n",
+                     "(unit m () () () (%))\n", "(unit 07 () () () ())\n", "(unit m () () () ((a +1)))\n",
+                     "(unit m () () () ((a -0)))\n", f"(unit m () () ((k () ((() {'1' * 41})) ())) ())\n",
+                     "(" * 100000, "(" * 100000 + ")" * 100000 + "\n"]:
             self.assert_invalid(text)
 
     def test_less_and_more_than_one_datum(self):
-        for text in ["\n", EMPTY + EMPTY, EMPTY[:-1] + " " + EMPTY, "5 " + EMPTY, "m\n", "5\n", "()\n", "unit\n", "(unit)\n",
-                     EMPTY[:-1] + " x\n"]:
+        for text in ["\n", EMPTY + EMPTY, EMPTY[:-1] + " " + EMPTY, "5 " + EMPTY, "m\n", "5\n", "()\n", "unit\n",
+                     "(unit)\n", EMPTY[:-1] + " x\n"]:
             self.assert_invalid(text)
 
     def test_more_or_fewer_parts(self):
-        for text in ["(unit m () () ())\n", "(unit m () () () () ())\n", "(unit m)\n", "(unit m () () () () x)\n", "(unit m () ())\n"]:
+        for text in ["(unit m () () ())\n", "(unit m () () () () ())\n", "(unit m)\n", "(unit m () () () () x)\n",
+                     "(unit m () ())\n"]:
             self.assert_invalid(text)
 
     def test_another_first_word(self):
@@ -207,43 +217,47 @@ class InvalidTest(FoldCase):
             self.assert_invalid(EMPTY.replace("unit", word))
 
     def test_parts_of_another_kind(self):
-        for parts in ["5 () () () ()", "(m) () () () ()", "() () () () ()", "m 5 () () ()", "m x () () ()", "m (5) () () ()",
-                      "m ((x)) () () ()", "m (x 5) () () ()", "m () 5 () ()", "m () x () ()", "m () () 5 ()", "m () () x ()",
-                      "m () () () 5", "m () () () x"]:
+        for parts in ["5 () () () ()", "(m) () () () ()", "() () () () ()", "m 5 () () ()", "m x () () ()",
+                      "m (5) () () ()", "m ((x)) () () ()", "m (x 5) () () ()", "m () 5 () ()", "m () x () ()",
+                      "m () () 5 ()", "m () () x ()", "m () () () 5", "m () () () x"]:
             self.assert_invalid(f"(unit {parts})\n")
 
     def test_scopes(self):
-        for scope in ["(5)", "(x)", "(())", "((x))", "((x special))", "((x special if if))", "((x prim))", "((x prim + +))",
-                      "((x global m))", "((x global m f f))", "((x global))", "((x macro m))", "((x macro m k k))", "((x local 0))",
-                      "((x local a))", "((x other a))", "((x other a b))", "((x Special if))", "((x 5))", "((x 5 6))",
-                      "((x prim 5))", "((5 prim +))", "((x global m 5))", "((x global 5 f))", "((x macro m (k)))", "(((x) prim +))",
-                      "((x (prim +)))", "((x prim (+)))", "((x (prim) +))", "((x prim +) (x prim +))", "((x prim +) (x prim -))",
-                      "((b prim +) (a prim +))", "((a prim +) (B prim +))", "((a prim +) (c prim +) (b prim +))", "((x prim +) ())",
-                      "(() (x prim +))", "((x prim +) 5)", "((x special) (y prim +))", "((prim +))", "((x if))"]:
+        for scope in ["(5)", "(x)", "(())", "((x))", "((x special))", "((x special if if))", "((x prim))",
+                      "((x prim + +))", "((x global m))", "((x global m f f))", "((x global))", "((x macro m))",
+                      "((x macro m k k))", "((x local 0))", "((x local a))", "((x other a))", "((x other a b))",
+                      "((x Special if))", "((x 5))", "((x 5 6))", "((x prim 5))", "((5 prim +))", "((x global m 5))",
+                      "((x global 5 f))", "((x macro m (k)))", "(((x) prim +))", "((x (prim +)))", "((x prim (+)))",
+                      "((x (prim) +))", "((x prim +) (x prim +))", "((x prim +) (x prim -))",
+                      "((b prim +) (a prim +))", "((a prim +) (B prim +))", "((a prim +) (c prim +) (b prim +))",
+                      "((x prim +) ())", "(() (x prim +))", "((x prim +) 5)", "((x special) (y prim +))", "((prim +))",
+                      "((x if))"]:
             self.assert_invalid(f"(unit m () {scope} () ())\n")
             self.assert_invalid(f"(unit m () () ((k () () {scope})) ())\n")
 
     def test_denotations_of_any_words(self):
-        for words in ["special if", "special x", "special ...", "prim +", "prim x", "prim special", "global a b", "global x x",
-                      "global macro global", "macro a b", "macro m m"]:
+        for words in ["special if", "special x", "special ...", "prim +", "prim x", "prim special", "global a b",
+                      "global x x", "global macro global", "macro a b", "macro m m"]:
             text = f"(unit m () ((x {words})) ((k () () ((x {words})))) ())\n"
             unit = read_unit(text)
             self.assertEqual(unit.exports, {"x": tuple(words.split())})
             self.assertEqual(unit.macros["k"][2], {"x": tuple(words.split())})
 
     def test_macros(self):
-        for macros in ["(5)", "(x)", "(())", "((k))", "((k ()))", "((k () ()))", "((k () () () ()))", "((5 () () ()))", "(((k) () () ()))",
-                       "((k 5 () ()))", "((k x () ()))", "((k (5) () ()))", "((k ((a)) () ()))", "((k () 5 ()))", "((k () x ()))",
-                       "((k () (5) ()))", "((k () (x) ()))", "((k () (()) ()))", "((k () ((1)) ()))", "((k () ((1 2 3)) ()))",
-                       "((k () (((1 2))) ()))", "((k () () 5))", "((k () () ()) (k () () ()))", "((k () () ()) (j () () ()))",
-                       "((k () () ()) 5)", "((a () () ()) (c () () ()) (b () () ()))", "((a () () ()) (B () () ()))"]:
+        for macros in ["(5)", "(x)", "(())", "((k))", "((k ()))", "((k () ()))", "((k () () () ()))", "((5 () () ()))",
+                       "(((k) () () ()))", "((k 5 () ()))", "((k x () ()))", "((k (5) () ()))", "((k ((a)) () ()))",
+                       "((k () 5 ()))", "((k () x ()))", "((k () (5) ()))", "((k () (x) ()))", "((k () (()) ()))",
+                       "((k () ((1)) ()))", "((k () ((1 2 3)) ()))", "((k () (((1 2))) ()))", "((k () () 5))",
+                       "((k () () ()) (k () () ()))", "((k () () ()) (j () () ()))", "((k () () ()) 5)",
+                       "((a () () ()) (c () () ()) (b () () ()))", "((a () () ()) (B () () ()))"]:
             self.assert_invalid(f"(unit m () () {macros} ())\n")
 
     def test_definitions(self):
-        for definitions in ["(5)", "(x)", "(())", "((a))", "((a 1 2))", "((5 1))", "(((a) 1))", "((a 1) (a 1))", "((a 1) (b 1) (a 2))",
-                            "((a x))", "((a ()))", "((a (prim x)))", "((a (prim 5)))", "((a (local 0)))", "((a (local)))",
-                            "((a (fn (0 0) 1)))", "((a (fn (0) (local 1))))", "((a (let ((0 (local 0))) 1)))", "((a (global m)))",
-                            "((a (global m 5)))", "((a (if 1 2)))", "((a (call)))", "((a (int 1)))", "((a (fn (-1) 1)))",
+        for definitions in ["(5)", "(x)", "(())", "((a))", "((a 1 2))", "((5 1))", "(((a) 1))", "((a 1) (a 1))",
+                            "((a 1) (b 1) (a 2))", "((a x))", "((a ()))", "((a (prim x)))", "((a (prim 5)))",
+                            "((a (local 0)))", "((a (local)))", "((a (fn (0 0) 1)))", "((a (fn (0) (local 1))))",
+                            "((a (let ((0 (local 0))) 1)))", "((a (global m)))", "((a (global m 5)))",
+                            "((a (if 1 2)))", "((a (call)))", "((a (int 1)))", "((a (fn (-1) 1)))",
                             "((a (fn (1000000001) 1)))", "((a 1) b)", "((a (call (local 0))))"]:
             self.assert_invalid(f"(unit m () () () {definitions})\n")
 
