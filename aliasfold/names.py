@@ -40,7 +40,7 @@ def written(name):
 
 def is_word(datum):
     """Tell whether a datum is a symbol, written or inserted."""
-    return isinstance(datum, (str, NewName))
+    return isinstance(datum, str) or isinstance(datum, NewName)
 
 
 def can_be_bound(datum):

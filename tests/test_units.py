@@ -181,8 +181,8 @@ class InvalidTest(FoldCase):
         for text in [" " + SMALL, SMALL + " ", SMALL[:-1], SMALL + "\n", SMALL[:-1] + " \n", "\n" + SMALL,
                      SMALL[:-1] + "\n ", SMALL.replace("m (o", "m  (o"), SMALL.replace("(o b)", "( o b)"),
                      SMALL.replace("(o b)", "(o b )"), SMALL.replace("(o b)", "(o\nb)"), SMALL.replace(") (f", ")(f"),
-                     SMALL.replace("m (o", "m(o"), SMALL.replace("()", "( )"), SMALL.replace("m (o", "m\t(o"), SMALL + "; x\n", "; x\n" + SMALL,
-                     SMALL.replace(" (o", "; x\n (o")]:
+                     SMALL.replace("m (o", "m(o"), SMALL.replace("()", "( )"), SMALL.replace("m (o", "m\t(o"),
+                     SMALL + "; x\n", "; x\n" + SMALL, SMALL.replace(" (o", "; x\n (o")]:
             self.assertNotEqual(text, SMALL)
             self.assert_invalid(text)
 
